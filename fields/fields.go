@@ -3,12 +3,16 @@ package fields
 
 import (
 	"fields/api"
+	"fields/lines"
 	"fields/rules"
+	"fields/sheet"
 	"fields/token"
 )
 
 // Editor is some rules, and the edits that can be taken back.
-type Editor struct{}
+type Editor struct {
+	sheet sheet.Sheet
+}
 
 // Plain tells a rule in its plain form (P3).
 func Plain(rule string) (string, api.Errno, int) {
@@ -24,7 +28,52 @@ func Plain(rule string) (string, api.Errno, int) {
 }
 
 // New makes an editor that takes back so many edits (P4).
-func New(undo int) (*Editor, api.Errno) { return nil, api.OK }
+func New(undo int) (*Editor, api.Errno) {
+	if undo < 0 || undo > api.MaxUndo {
+		return nil, api.ErrRange
+	}
+	return &Editor{}, api.OK
+}
 
 // Do does what a line says (P5 to P9).
-func (e *Editor) Do(line string) api.Reply { return api.Reply{} }
+func (e *Editor) Do(line string) api.Reply {
+	read, errno, at := lines.Read(line)
+	if errno != api.OK {
+		return api.Reply{Err: errno, At: at}
+	}
+	switch read.Verb {
+	case lines.Set, lines.Delete, lines.Rename:
+		return e.edit(read)
+	case lines.Value, lines.Rule, lines.List, lines.Order:
+		return e.tell(read)
+	}
+	return api.Reply{}
+}
+
+func (e *Editor) edit(line lines.Line) (reply api.Reply) {
+	switch line.Verb {
+	case lines.Set:
+		reply.Names, reply.Err = e.sheet.Set(line.Names[0], line.Rule)
+	case lines.Delete:
+		reply.Names, reply.Err = e.sheet.Delete(line.Names[0])
+	case lines.Rename:
+		reply.Names, reply.Err = e.sheet.Rename(line.Names[0], line.Names[1])
+	}
+	return reply
+}
+
+func (e *Editor) tell(line lines.Line) (reply api.Reply) {
+	switch line.Verb {
+	case lines.Value:
+		var value rules.Value
+		value, reply.Err = e.sheet.Value(line.Names[0])
+		reply.Kind, reply.N = value.Kind, value.N
+	case lines.Rule:
+		reply.Text, reply.Err = e.sheet.Rule(line.Names[0])
+	case lines.List:
+		reply.Text = e.sheet.List()
+	case lines.Order:
+		reply.Names = e.sheet.Order()
+	}
+	return reply
+}

@@ -38,89 +38,90 @@ var ahead = [token.Kinds]int{
 // takes a token ahead of knowing that a RULE may go on with it, so the place of an error is right.
 type reader struct {
 	left  []token.Token
-	taken []token.Token
 	depth int
 	errno api.Errno
 }
 
-func (r *reader) whole() bool {
-	return r.level(ruleLevel) && r.is(token.End)
+func (r *reader) whole() (part, bool) {
+	whole, ok := r.level(ruleLevel)
+	return whole, ok && r.is(token.End)
 }
 
-func (r *reader) level(n int) bool {
+func (r *reader) level(n int) (part, bool) {
 	if ahead[r.kind()] == n {
 		return r.behindSign(n)
 	}
 	if n == atomLevel {
 		return r.atom()
 	}
-	if !r.level(n + 1) {
-		return false
-	}
-	for between[r.kind()] == n {
-		r.take()
-		if !r.level(n + 1) {
-			return false
-		}
+	whole, ok := r.level(n + 1)
+	for ok && between[r.kind()] == n {
+		sign := r.take()
+		var second part
+		second, ok = r.level(n + 1)
+		whole = part{kind: sign.Kind, parts: []part{whole, second}}
 		if n == testLevel {
 			break // a TEST has two SUMs at most
 		}
 	}
-	return true
+	return whole, ok
 }
 
-func (r *reader) behindSign(n int) bool {
-	if !r.enter() {
-		return false
+func (r *reader) behindSign(n int) (part, bool) {
+	sign, ok := r.enter()
+	if !ok {
+		return part{}, false
 	}
-	sign := &r.taken[len(r.taken)-1]
 	if sign.Kind == token.Minus {
 		sign.Kind = token.Negate
 	}
-	if !r.level(n) {
-		return false
-	}
+	inner, ok := r.level(n)
 	r.depth--
-	return true
+	return part{kind: sign.Kind, parts: []part{inner}}, ok
 }
 
-func (r *reader) atom() bool {
+func (r *reader) atom() (part, bool) {
 	switch r.kind() {
 	case token.Num, token.Name, token.True, token.False:
-		r.take()
-		return true
+		t := r.take()
+		return part{kind: t.Kind, name: t.Text, n: t.N}, true
 	case token.If:
 		r.take()
-		return r.brackets(3)
+		return r.brackets(token.If, 3)
 	}
-	return r.brackets(1)
+	return r.brackets(token.Open, 1)
 }
 
-func (r *reader) brackets(rules int) bool {
-	if !r.is(token.Open) || !r.enter() {
-		return false
+func (r *reader) brackets(kind token.Kind, rules int) (part, bool) {
+	if !r.is(token.Open) {
+		return part{}, false
 	}
+	if _, ok := r.enter(); !ok {
+		return part{}, false
+	}
+	whole := part{kind: kind}
 	for i := range rules {
 		if i > 0 && !r.pass(token.Comma) {
-			return false
+			return part{}, false
 		}
-		if !r.level(ruleLevel) {
-			return false
+		inner, ok := r.level(ruleLevel)
+		if !ok {
+			return part{}, false
 		}
+		whole.parts = append(whole.parts, inner)
 	}
 	r.depth--
-	return r.pass(token.Close)
+	return whole, r.pass(token.Close)
 }
 
 // enter takes a token that something is in.
-func (r *reader) enter() bool {
+func (r *reader) enter() (token.Token, bool) {
 	if r.depth == api.MaxDepth {
 		r.errno = api.ErrDepth
-		return false
+		return token.Token{}, false
 	}
 	r.depth++
-	r.take()
-	return true
+	return r.take(), true
 }
 
 func (r *reader) pass(kind token.Kind) bool {
@@ -139,9 +140,10 @@ func (r *reader) is(kind token.Kind) bool {
 	return true
 }
 
-func (r *reader) take() {
-	r.taken = append(r.taken, r.left[0])
+func (r *reader) take() token.Token {
+	taken := r.left[0]
 	r.left = r.left[1:]
+	return taken
 }
 
 func (r *reader) kind() token.Kind { return r.left[0].Kind }

@@ -3,6 +3,7 @@ package token
 
 import (
 	"strconv"
+	"strings"
 
 	"fields/api"
 )
@@ -34,11 +35,12 @@ const (
 	Kinds // how many kinds there are
 )
 
-// Token is a token and its place. Text is told of NUMs (without noughts ahead) and of NAMEs only.
+// Token is a token and its place. Text is told of NAMEs only, N of NUMs only.
 type Token struct {
 	Kind Kind
 	At   int
 	Text string
+	N    int64
 }
 
 const maxDigits = 19
@@ -109,7 +111,7 @@ func number(row string) (Token, bool) {
 	if err != nil || len(row) > maxDigits {
 		return Token{}, false
 	}
-	return Token{Kind: Num, Text: strconv.FormatInt(n, 10)}, true
+	return Token{Kind: Num, N: n}, true
 }
 
 func word(row string) (Token, bool) {
@@ -119,7 +121,8 @@ func word(row string) (Token, bool) {
 	if kind, ok := meaning(row); ok {
 		return Token{Kind: kind}, true
 	}
-	return Token{Kind: Name, Text: row}, true
+	// A copy, for a name may be kept, and the text it stands in may not.
+	return Token{Kind: Name, Text: strings.Clone(row)}, true
 }
 
 func meaning(row string) (Kind, bool) {

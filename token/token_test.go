@@ -13,17 +13,17 @@ func TestScanTellsTokensAndPlaces(t *testing.T) {
 		text string
 		want []Token
 	}{
-		{"", []Token{{End, 0, ""}}},
-		{"   ", []Token{{End, 3, ""}}},
-		{" a ", []Token{{Name, 1, "a"}, {End, 3, ""}}},
-		{"1a", []Token{{Num, 0, "1"}, {Name, 1, "a"}, {End, 2, ""}}},
-		{"a1b2c3", []Token{{Name, 0, "a1b2c3"}, {End, 6, ""}}},
-		{"007", []Token{{Num, 0, "7"}, {End, 3, ""}}},
-		{"if and or", []Token{{If, 0, ""}, {And, 3, ""}, {Or, 7, ""}, {End, 9, ""}}},
-		{"not true false", []Token{{Not, 0, ""}, {True, 4, ""}, {False, 9, ""}, {End, 14, ""}}},
-		{"iff or1", []Token{{Name, 0, "iff"}, {Name, 4, "or1"}, {End, 7, ""}}},
-		{"(),+-", []Token{{Open, 0, ""}, {Close, 1, ""}, {Comma, 2, ""}, {Plus, 3, ""}, {Minus, 4, ""}, {End, 5, ""}}},
-		{"*/%=<", []Token{{Times, 0, ""}, {Divide, 1, ""}, {Remainder, 2, ""}, {Equal, 3, ""}, {Less, 4, ""}, {End, 5, ""}}},
+		{"", []Token{{End, 0, "", 0}}},
+		{"   ", []Token{{End, 3, "", 0}}},
+		{" a ", []Token{{Name, 1, "a", 0}, {End, 3, "", 0}}},
+		{"1a", []Token{{Num, 0, "", 1}, {Name, 1, "a", 0}, {End, 2, "", 0}}},
+		{"a1b2c3", []Token{{Name, 0, "a1b2c3", 0}, {End, 6, "", 0}}},
+		{"007", []Token{{Num, 0, "", 7}, {End, 3, "", 0}}},
+		{"if and or", []Token{{If, 0, "", 0}, {And, 3, "", 0}, {Or, 7, "", 0}, {End, 9, "", 0}}},
+		{"not true false", []Token{{Not, 0, "", 0}, {True, 4, "", 0}, {False, 9, "", 0}, {End, 14, "", 0}}},
+		{"iff or1", []Token{{Name, 0, "iff", 0}, {Name, 4, "or1", 0}, {End, 7, "", 0}}},
+		{"(),+-", []Token{{Open, 0, "", 0}, {Close, 1, "", 0}, {Comma, 2, "", 0}, {Plus, 3, "", 0}, {Minus, 4, "", 0}, {End, 5, "", 0}}},
+		{"*/%=<", []Token{{Times, 0, "", 0}, {Divide, 1, "", 0}, {Remainder, 2, "", 0}, {Equal, 3, "", 0}, {Less, 4, "", 0}, {End, 5, "", 0}}},
 	} {
 		if got, e, at := Scan(c.text); !slices.Equal(got, c.want) || e != api.OK || at != 0 {
 			t.Errorf("Scan(%q) = %v, %d, %d, want %v", c.text, got, e, at, c.want)
