@@ -19,7 +19,7 @@ func checkReply(t *testing.T, line string, r api.Reply) {
 	switch r.Err {
 	case api.OK:
 		bad = bad || r.At != 0
-	case api.ErrLong, api.ErrName, api.ErrTwice, api.ErrLimit:
+	case api.ErrLong, api.ErrName, api.ErrTwice, api.ErrLimit, api.ErrEmpty:
 		bad = bad || !same(r, api.Reply{Err: r.Err})
 	case api.ErrToken, api.ErrSyntax, api.ErrDepth:
 		bad = bad || !same(r, api.Reply{Err: r.Err, At: r.At})
@@ -48,8 +48,8 @@ func doAndCheck(t *testing.T, e *Editor, line string) api.Errno {
 func TestP1LinesOfAnyBytes(t *testing.T) {
 	random := rand.New(rand.NewSource(3))
 	const likely = "  0019abcdnotifandortruefalse((()),,+--*/%=<<"
-	heads := []string{"set", "set ", "set a =", "set d = ", "set c = (-(-(-", "delete ", "delete", "rename ", "rename a ", "value ", "rule ", "list", "order", "", " ", "begin", "undo"}
-	e := editor(t, someLines...)
+	heads := []string{"set", "set ", "set a =", "set d = ", "set c = (-(-(-", "delete ", "delete", "rename ", "rename a ", "value ", "rule ", "list", "order", "", " ", "begin", "undo", "redo"}
+	e := keeping(t, 3, someLines...)
 	counts := map[api.Errno]int{}
 	for range 30000 {
 		text := []byte(heads[random.Intn(len(heads))])
@@ -61,7 +61,7 @@ func TestP1LinesOfAnyBytes(t *testing.T) {
 		}
 		counts[doAndCheck(t, e, string(text))]++
 	}
-	for _, errno := range []api.Errno{api.OK, api.ErrLong, api.ErrToken, api.ErrSyntax, api.ErrDepth, api.ErrName} {
+	for _, errno := range []api.Errno{api.OK, api.ErrLong, api.ErrToken, api.ErrSyntax, api.ErrDepth, api.ErrName, api.ErrEmpty} {
 		if counts[errno] < 20 {
 			t.Errorf("only %d lines with %d among them", counts[errno], errno)
 		}
@@ -85,7 +85,7 @@ func TestP1ShortAndLongLines(t *testing.T) {
 }
 
 func TestP1NothingIsToldThatIsNotAsked(t *testing.T) {
-	e := editor(t, someLines...)
+	e := keeping(t, 1, someLines...)
 	for _, c := range []struct {
 		line  string
 		reply api.Reply
@@ -97,6 +97,10 @@ func TestP1NothingIsToldThatIsNotAsked(t *testing.T) {
 		{"set b = 1", api.Reply{Names: []string{"b", "a", "c"}}},
 		{"rename b e", api.Reply{Names: []string{"e", "a", "c"}}},
 		{"delete e", api.Reply{Names: []string{"a", "c"}}},
+		{"redo", api.Reply{Err: api.ErrEmpty}},
+		{"undo", api.Reply{}},
+		{"undo", api.Reply{Err: api.ErrEmpty}},
+		{"redo", api.Reply{}},
 	} {
 		expect(t, e, c.line, c.reply)
 	}
@@ -126,9 +130,9 @@ func scribble(names []string) {
 func TestP2WritingIntoNamesChangesNothing(t *testing.T) {
 	random := rand.New(rand.NewSource(4))
 	d := drawer{random, []string{"a", "b", "c", "d", "e", "f"}}
-	e, f := editor(t), editor(t)
+	e, f := keeping(t, 4), keeping(t, 4)
 	for range 2000 {
-		line := d.line()
+		line := d.one(d.line(), d.line(), "undo", "redo")
 		r, want := e.Do(line), f.Do(line)
 		if !same(r, want) {
 			t.Fatalf("Do(%q) = %+v, want %+v", line, r, want)
@@ -156,7 +160,7 @@ func TestP2TwoAnswersAreApart(t *testing.T) {
 
 // A line whose bytes are written over behind the call must be neither kept nor handed out.
 func TestP2TheLineIsNotKept(t *testing.T) {
-	e := editor(t)
+	e := keeping(t, 6)
 	var told [][]string
 	for _, line := range []string{"set abc = nobody + 17", "set xyz = abc", "rename abc other", "set nobody = 3", "set nobody = xyz", "set self = self", "rename xyz last"} {
 		bytes := []byte(line)
@@ -167,6 +171,10 @@ func TestP2TheLineIsNotKept(t *testing.T) {
 	}
 	expect(t, e, "list", api.Reply{Text: "last = other\nnobody = 3\nother = nobody + 17\n"})
 	expect(t, e, "value last", api.Reply{Kind: api.Int, N: 20})
+	for _, line := range []string{"undo", "undo", "undo", "undo", "redo", "redo", "redo"} {
+		expect(t, e, line, api.Reply{})
+	}
+	expect(t, e, "list", api.Reply{Text: "nobody = 3\nother = nobody + 17\nxyz = other\n"})
 	for _, names := range told {
 		if strings.Contains(strings.Join(names, ""), "?") {
 			t.Errorf("%q", told)
@@ -179,18 +187,18 @@ func TestP2EditorsAreApart(t *testing.T) {
 		return drawer{rand.New(rand.NewSource(seed)), []string{"a", "b", "c", "d", "e"}}
 	}
 	alone := func(seed int64) string {
-		e, d := editor(t), drawn(seed)
+		e, d := keeping(t, 3), drawn(seed)
 		for range 100 {
-			e.Do(d.line())
+			e.Do(d.one(d.line(), d.line(), "undo", "redo"))
 		}
 		return everything(e)
 	}
 	for seed := range int64(20) {
-		e, f := editor(t), editor(t)
+		e, f := keeping(t, 3), keeping(t, 3)
 		d, g := drawn(2*seed), drawn(2*seed+1)
 		for range 100 {
-			e.Do(d.line())
-			f.Do(g.line())
+			e.Do(d.one(d.line(), d.line(), "undo", "redo"))
+			f.Do(g.one(g.line(), g.line(), "undo", "redo"))
 		}
 		if everything(e) != alone(2*seed) || everything(f) != alone(2*seed+1) {
 			t.Fatalf("two editors with the lines drawn by %d and %d are not apart", 2*seed, 2*seed+1)

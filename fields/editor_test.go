@@ -10,12 +10,18 @@ import (
 	"fields/api"
 )
 
-// editor is a new one, behind some lines that must all be done.
+// editor is a new one that keeps no edit, behind some lines that must all be done.
 func editor(t *testing.T, lines ...string) *Editor {
 	t.Helper()
-	e, errno := New(0)
+	return keeping(t, 0, lines...)
+}
+
+// keeping is a new editor that keeps so many edits, behind some lines that must all be done.
+func keeping(t *testing.T, undo int, lines ...string) *Editor {
+	t.Helper()
+	e, errno := New(undo)
 	if e == nil || errno != api.OK {
-		t.Fatalf("New(0) = %v, %d", e, errno)
+		t.Fatalf("New(%d) = %v, %d", undo, e, errno)
 	}
 	for _, line := range lines {
 		if r := e.Do(line); r.Err != api.OK {
@@ -80,7 +86,7 @@ func TestP4New(t *testing.T) {
 }
 
 func TestExamplesOfTheDocument(t *testing.T) {
-	e := editor(t)
+	e := keeping(t, 1)
 	expectNames(t, e, "set a = b + 1", "a")
 	expect(t, e, "value a", api.Reply{Kind: api.Error, N: api.Name})
 	expectNames(t, e, "set b = 2", "b a")
@@ -90,7 +96,7 @@ func TestExamplesOfTheDocument(t *testing.T) {
 	expectNames(t, e, "rename b x", "x a")
 	expect(t, e, "rule a", api.Reply{Text: "x + 1"})
 	expectNames(t, e, "delete x", "a")
-	expectNames(t, e, "set x = 2", "x a")
+	expect(t, e, "undo", api.Reply{})
 	expect(t, e, "list", api.Reply{Text: "a = x + 1\nx = 2\n"})
 	f := editor(t, "set a = n", "set m = a")
 	expectCircle(t, f, "rename m n", "a n")

@@ -3,6 +3,7 @@ package fields
 
 import (
 	"fields/api"
+	"fields/history"
 	"fields/lines"
 	"fields/rules"
 	"fields/sheet"
@@ -11,7 +12,8 @@ import (
 
 // Editor is some rules, and the edits that can be taken back.
 type Editor struct {
-	sheet sheet.Sheet
+	sheet   sheet.Sheet
+	history history.History
 }
 
 // Plain tells a rule in its plain form (P3).
@@ -32,7 +34,7 @@ func New(undo int) (*Editor, api.Errno) {
 	if undo < 0 || undo > api.MaxUndo {
 		return nil, api.ErrRange
 	}
-	return &Editor{}, api.OK
+	return &Editor{history: history.History{Most: undo}}, api.OK
 }
 
 // Do does what a line says (P5 to P9).
@@ -44,22 +46,32 @@ func (e *Editor) Do(line string) api.Reply {
 	switch read.Verb {
 	case lines.Set, lines.Delete, lines.Rename:
 		return e.edit(read)
+	case lines.Undo:
+		return api.Reply{Err: e.history.Undo()}
+	case lines.Redo:
+		return api.Reply{Err: e.history.Redo()}
 	case lines.Value, lines.Rule, lines.List, lines.Order:
 		return e.tell(read)
 	}
 	return api.Reply{}
 }
 
-func (e *Editor) edit(line lines.Line) (reply api.Reply) {
+func (e *Editor) edit(line lines.Line) api.Reply {
+	names, back, errno := e.change(line)
+	if errno == api.OK {
+		e.history.Keep(back)
+	}
+	return api.Reply{Err: errno, Names: names}
+}
+
+func (e *Editor) change(line lines.Line) ([]string, history.Back, api.Errno) {
 	switch line.Verb {
 	case lines.Set:
-		reply.Names, reply.Err = e.sheet.Set(line.Names[0], line.Rule)
+		return e.sheet.Set(line.Names[0], line.Rule)
 	case lines.Delete:
-		reply.Names, reply.Err = e.sheet.Delete(line.Names[0])
-	case lines.Rename:
-		reply.Names, reply.Err = e.sheet.Rename(line.Names[0], line.Names[1])
+		return e.sheet.Delete(line.Names[0])
 	}
-	return reply
+	return e.sheet.Rename(line.Names[0], line.Names[1])
 }
 
 func (e *Editor) tell(line lines.Line) (reply api.Reply) {

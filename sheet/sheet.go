@@ -6,6 +6,7 @@ import (
 	"strings"
 
 	"fields/api"
+	"fields/history"
 	"fields/rules"
 )
 
@@ -77,11 +78,14 @@ func (s *Sheet) hanging(name string) []*field {
 	return found
 }
 
-// workOut works out fields anew: each must stand behind all of them that it mentions.
-func (s *Sheet) workOut(fields []*field) {
+// workOut works out fields anew: each must stand behind all of them that it mentions. What they were worth
+// is kept, so that nothing need be worked out to take this back.
+func (s *Sheet) workOut(fields []*field) history.Back {
+	var backs []history.Back
 	for _, f := range fields {
-		f.worth = f.rule.Worth(s.worth)
+		backs = append(backs, history.Put(&f.worth, f.rule.Worth(s.worth)))
 	}
+	return history.All(backs...)
 }
 
 func (s *Sheet) worth(name string) rules.Value {

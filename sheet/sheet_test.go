@@ -3,10 +3,12 @@ package sheet
 import (
 	"math/rand"
 	"slices"
+	"strconv"
 	"strings"
 	"testing"
 
 	"fields/api"
+	"fields/history"
 	"fields/rules"
 	"fields/token"
 )
@@ -22,6 +24,21 @@ func rule(t *testing.T, text string) rules.Rule {
 		t.Fatalf("Read(%q): %d, %d", text, errno, at)
 	}
 	return read
+}
+
+// An edit of the tests is told ahead of the sheet that it is done on.
+type edit func(s *Sheet) ([]string, history.Back, api.Errno)
+
+func set(t *testing.T, name, text string) edit {
+	return func(s *Sheet) ([]string, history.Back, api.Errno) { return s.Set(name, rule(t, text)) }
+}
+
+func drop(name string) edit {
+	return func(s *Sheet) ([]string, history.Back, api.Errno) { return s.Delete(name) }
+}
+
+func rename(name, to string) edit {
+	return func(s *Sheet) ([]string, history.Back, api.Errno) { return s.Rename(name, to) }
 }
 
 // inOrder is a sheet whose order is that of the fields here, each told as name=rule.
@@ -43,6 +60,15 @@ func expectOrder(t *testing.T, s *Sheet, want string) {
 	}
 }
 
+// everything is all that there is to be taken back.
+func everything(s *Sheet) string {
+	text := strings.Join(s.Order(), " ") + "\n" + s.List()
+	for _, f := range s.order {
+		text += f.name + " " + strconv.Itoa(f.worth.Kind) + " " + strconv.FormatInt(f.worth.N, 10) + "\n"
+	}
+	return text
+}
+
 func TestTheOrderIsMendedBetweenTheTwoPlacesOnly(t *testing.T) {
 	all := []string{"p=1", "q=p", "a=1", "x=q", "b=a", "y=x", "c=y", "z=c", "r=1"}
 	for _, c := range []struct {
@@ -59,7 +85,7 @@ func TestTheOrderIsMendedBetweenTheTwoPlacesOnly(t *testing.T) {
 		{"z", "nobody", "p q a x b y c z r"},
 	} {
 		s := inOrder(t, all...)
-		if _, errno := s.Set(c.name, rule(t, c.rule)); errno != api.OK {
+		if _, _, errno := s.Set(c.name, rule(t, c.rule)); errno != api.OK {
 			t.Errorf("set %s = %s: %d", c.name, c.rule, errno)
 		}
 		expectOrder(t, s, c.order)
@@ -78,7 +104,7 @@ func TestTheOrderBehindANewField(t *testing.T) {
 		{"new", "y", "p a x b y r new"},
 	} {
 		s := inOrder(t, all...)
-		if _, errno := s.Set(c.name, rule(t, c.rule)); errno != api.OK {
+		if _, _, errno := s.Set(c.name, rule(t, c.rule)); errno != api.OK {
 			t.Errorf("set %s = %s: %d", c.name, c.rule, errno)
 		}
 		expectOrder(t, s, c.order)
@@ -97,7 +123,7 @@ func TestTheOrderBehindARename(t *testing.T) {
 		{"y", "new", "p a x b new r"},
 	} {
 		s := inOrder(t, all...)
-		if _, errno := s.Rename(c.name, c.to); errno != api.OK {
+		if _, _, errno := s.Rename(c.name, c.to); errno != api.OK {
 			t.Errorf("rename %s %s: %d", c.name, c.to, errno)
 		}
 		expectOrder(t, s, c.order)
@@ -112,21 +138,84 @@ func TestADeleteLeavesTheOrder(t *testing.T) {
 
 func TestACircleIsTakenBack(t *testing.T) {
 	all := []string{"p=1", "a=n", "x=p", "b=a", "c=b"}
-	for _, edit := range []func(s *Sheet) ([]string, api.Errno){
-		func(s *Sheet) ([]string, api.Errno) { return s.Set("a", rule(t, "c")) },
-		func(s *Sheet) ([]string, api.Errno) { return s.Set("n", rule(t, "x + c")) },
-		func(s *Sheet) ([]string, api.Errno) { return s.Set("z", rule(t, "z")) },
-		func(s *Sheet) ([]string, api.Errno) { return s.Rename("c", "n") },
-		func(s *Sheet) ([]string, api.Errno) { return s.Rename("a", "n") },
+	for i, refused := range []edit{
+		set(t, "a", "c"),
+		set(t, "n", "x + c"),
+		set(t, "z", "z"),
+		rename("c", "n"),
+		rename("a", "n"),
 	} {
 		s := inOrder(t, all...)
-		list := s.List()
-		if _, errno := edit(s); errno != api.ErrCycle {
-			t.Errorf("%d, want ErrCycle", errno)
+		was := everything(s)
+		if _, back, errno := refused(s); errno != api.ErrCycle || back != nil {
+			t.Errorf("edit %d: %d, want ErrCycle and nothing to take back", i, errno)
 		}
 		expectOrder(t, s, "p a x b c")
-		if s.List() != list {
-			t.Errorf("there is\n%s, was\n%s", s.List(), list)
+		if now := everything(s); now != was {
+			t.Errorf("edit %d: there is\n%s, was\n%s", i, now, was)
+		}
+	}
+}
+
+func TestARenameThatMakesARuleTooLongIsTakenBack(t *testing.T) {
+	s := inOrder(t, "a=1", "b=a", "c=a"+strings.Repeat(" + a", 24), "d=a")
+	was := everything(s)
+	if _, back, errno := s.Rename("a", "aa"); errno != api.ErrLimit || back != nil {
+		t.Errorf("%d, want ErrLimit and nothing to take back", errno)
+	}
+	if now := everything(s); now != was {
+		t.Errorf("there is\n%s, was\n%s", now, was)
+	}
+}
+
+// Each edit stands with one that breaks the order, where there is such.
+func TestAnEditIsTakenBackAndDoneAgain(t *testing.T) {
+	all := []string{"p=1", "a=n", "x=p", "b=a + n", "y=x", "r=1 / 0"}
+	for i, done := range []edit{
+		set(t, "p", "2"), set(t, "p", "r"),
+		set(t, "new", "y"), set(t, "n", "y"),
+		drop("p"), drop("r"), drop("a"),
+		rename("p", "new"), rename("y", "n"), rename("a", "c"),
+	} {
+		s := inOrder(t, all...)
+		was := everything(s)
+		_, turn, errno := done(s)
+		if errno != api.OK {
+			t.Fatalf("edit %d: %d", i, errno)
+		}
+		is := everything(s)
+		for n := range 6 {
+			turn = turn()
+			want := is
+			if n%2 == 0 {
+				want = was
+			}
+			if now := everything(s); now != want {
+				t.Fatalf("edit %d, turn %d: there is\n%s, want\n%s", i, n, now, want)
+			}
+		}
+	}
+}
+
+// The value that no field can be worth stays where nothing is brought back.
+func TestTakingAnEditBackLeavesWhatDoesNotHangOnIt(t *testing.T) {
+	marked := rules.Value{Kind: 99}
+	for i, done := range []edit{set(t, "a", "-d"), set(t, "n", "-d"), drop("a"), rename("a", "n"), rename("d", "n"), rename("f", "new")} {
+		s := inOrder(t, "a=1", "b=-a", "c=b + n", "d=1", "e=-d", "f=-e")
+		hanging, turn, _ := done(s)
+		for _, f := range s.order {
+			if !slices.Contains(hanging, f.name) {
+				f.worth = marked
+			}
+		}
+		apart := slices.DeleteFunc(slices.Clone(s.order), func(f *field) bool { return f.worth != marked })
+		for range 4 {
+			turn = turn()
+			for _, f := range apart {
+				if f.worth != marked {
+					t.Errorf("edit %d: %s is worth %v", i, f.name, f.worth)
+				}
+			}
 		}
 	}
 }
@@ -135,16 +224,16 @@ func TestACircleIsTakenBack(t *testing.T) {
 func TestOnlyWhatHangsOnAnEditIsWorkedOutAnew(t *testing.T) {
 	random := rand.New(rand.NewSource(1))
 	all := []string{"a=1", "b=-a", "c=b + x", "d=1", "e=d + c", "f=-d", "g=-y"}
-	edits := []func(s *Sheet) ([]string, api.Errno){
-		func(s *Sheet) ([]string, api.Errno) { return s.Set("b", rule(t, "-d")) },
-		func(s *Sheet) ([]string, api.Errno) { return s.Set("x", rule(t, "-f")) },
-		func(s *Sheet) ([]string, api.Errno) { return s.Set("new", rule(t, "-f")) },
-		func(s *Sheet) ([]string, api.Errno) { return s.Delete("a") },
-		func(s *Sheet) ([]string, api.Errno) { return s.Delete("g") },
-		func(s *Sheet) ([]string, api.Errno) { return s.Rename("d", "y") },
-		func(s *Sheet) ([]string, api.Errno) { return s.Rename("f", "new") },
-		func(s *Sheet) ([]string, api.Errno) { return s.Set("a", rule(t, "-e")) },
-		func(s *Sheet) ([]string, api.Errno) { return s.Rename("b", "g") },
+	edits := []edit{
+		set(t, "b", "-d"),
+		set(t, "x", "-f"),
+		set(t, "new", "-f"),
+		drop("a"),
+		drop("g"),
+		rename("d", "y"),
+		rename("f", "new"),
+		set(t, "a", "-e"),
+		rename("b", "g"),
 	}
 	for range 200 {
 		s := inOrder(t, all...)
@@ -154,7 +243,7 @@ func TestOnlyWhatHangsOnAnEditIsWorkedOutAnew(t *testing.T) {
 			for _, f := range before {
 				f.worth = marked
 			}
-			names, errno := edits[at](s)
+			names, _, errno := edits[at](s)
 			for _, f := range s.order {
 				if anew := errno == api.OK && slices.Contains(names, f.name); anew == (f.worth == marked) {
 					t.Fatalf("edit %d: %v, and of %s there is %v", at, names, f.name, f.worth)
