@@ -1,8 +1,10 @@
 package history
 
 import (
+	"runtime"
 	"slices"
 	"testing"
+	"weak"
 
 	"fields/api"
 )
@@ -132,4 +134,21 @@ func TestNoMoreIsKept(t *testing.T) {
 		h.Keep(Put(&n, 99))
 		expect(t, "kept to be done again behind an edit", count(h.undone), 0)
 	}
+}
+
+func TestAnEditThatIsDroppedIsFreed(t *testing.T) {
+	h := History{Most: 3}
+	var places []weak.Pointer[[64]int]
+	for range 10 {
+		place := new([64]int)
+		places = append(places, weak.Make(place))
+		h.Keep(Put(place, [64]int{1}))
+		runtime.GC()
+		for i, place := range places {
+			if kept := i >= len(places)-h.Most; kept != (place.Value() != nil) {
+				t.Errorf("behind edit %d: edit %d is kept: %v, want %v", len(places)-1, i, !kept, kept)
+			}
+		}
+	}
+	runtime.KeepAlive(&h)
 }

@@ -33,27 +33,27 @@ type Line struct {
 	Rule  rules.Rule
 }
 
-// A head is the first word of a line, and the kinds of the tokens behind it; behind these comes a RULE, or the end.
+// A head is the first word of a line, and what stands behind it: so many NAMEs; then `=` and a RULE, or the end.
 type head struct {
-	word   string
-	verb   Verb
-	behind []token.Kind
-	rule   bool
+	word  string
+	verb  Verb
+	names int
+	rule  bool
 }
 
 var heads = [...]head{
-	{"set", Set, []token.Kind{token.Name, token.Equal}, true},
-	{"delete", Delete, []token.Kind{token.Name}, false},
-	{"rename", Rename, []token.Kind{token.Name, token.Name}, false},
-	{"begin", Begin, nil, false},
-	{"commit", Commit, nil, false},
-	{"cancel", Cancel, nil, false},
-	{"undo", Undo, nil, false},
-	{"redo", Redo, nil, false},
-	{"value", Value, []token.Kind{token.Name}, false},
-	{"rule", Rule, []token.Kind{token.Name}, false},
-	{"list", List, nil, false},
-	{"order", Order, nil, false},
+	{"set", Set, 1, true},
+	{"delete", Delete, 1, false},
+	{"rename", Rename, 2, false},
+	{"begin", Begin, 0, false},
+	{"commit", Commit, 0, false},
+	{"cancel", Cancel, 0, false},
+	{"undo", Undo, 0, false},
+	{"redo", Redo, 0, false},
+	{"value", Value, 1, false},
+	{"rule", Rule, 1, false},
+	{"list", List, 0, false},
+	{"order", Order, 0, false},
 }
 
 // Read reads a text as one LINE; or it tells ErrLong, ErrToken, ErrSyntax or ErrDepth and the place, or ErrLimit.
@@ -72,13 +72,11 @@ func Read(text string) (Line, api.Errno, int) {
 
 func (h head) read(left []token.Token) (Line, api.Errno, int) {
 	line := Line{Verb: h.verb}
-	for _, kind := range h.behind {
-		if left[0].Kind != kind {
+	for range h.names {
+		if left[0].Kind != token.Name {
 			return Line{}, api.ErrSyntax, left[0].At
 		}
-		if kind == token.Name {
-			line.Names = append(line.Names, left[0].Text)
-		}
+		line.Names = append(line.Names, left[0].Text)
 		left = left[1:]
 	}
 	if h.rule {
@@ -91,7 +89,10 @@ func (h head) read(left []token.Token) (Line, api.Errno, int) {
 }
 
 func (l Line) withRule(left []token.Token) (Line, api.Errno, int) {
-	rule, errno, at := rules.Read(left)
+	if left[0].Kind != token.Equal {
+		return Line{}, api.ErrSyntax, left[0].At
+	}
+	rule, errno, at := rules.Read(left[1:])
 	if errno != api.OK {
 		return Line{}, errno, at
 	}

@@ -2,6 +2,7 @@ package lines
 
 import (
 	"slices"
+	"strings"
 	"testing"
 
 	"fields/api"
@@ -37,9 +38,16 @@ func TestReadWrong(t *testing.T) {
 		errno api.Errno
 		at    int
 	}{
-		{"", api.ErrSyntax, 0}, {"?", api.ErrToken, 0}, {"a", api.ErrSyntax, 0}, {" if", api.ErrSyntax, 1},
-		{"set a", api.ErrSyntax, 5}, {"set a = ", api.ErrSyntax, 8}, {"set a = -------1", api.ErrDepth, 14},
-		{"rename a", api.ErrSyntax, 8}, {"rename a b c", api.ErrSyntax, 11}, {"list 1", api.ErrSyntax, 5},
+		{"", api.ErrSyntax, 0}, {"?", api.ErrToken, 0}, {"a", api.ErrSyntax, 0}, {" if", api.ErrSyntax, 1}, {"1", api.ErrSyntax, 0}, {"= set", api.ErrSyntax, 0},
+		{strings.Repeat(" ", 121), api.ErrLong, 0}, {"list ?", api.ErrToken, 5},
+		{"set", api.ErrSyntax, 3}, {"set 1", api.ErrSyntax, 4}, {"set = 1", api.ErrSyntax, 4}, {"set a", api.ErrSyntax, 5}, {"set a b", api.ErrSyntax, 6}, {"set a < 1", api.ErrSyntax, 6},
+		{"set a = ", api.ErrSyntax, 8}, {"set a = 1 1", api.ErrSyntax, 10}, {"set a = -------1", api.ErrDepth, 14}, {"set a = 1" + strings.Repeat("+1", 25), api.ErrLimit, 0},
+		{"delete", api.ErrSyntax, 6}, {"delete 1", api.ErrSyntax, 7}, {"delete a b", api.ErrSyntax, 9}, {"delete a = 1", api.ErrSyntax, 9},
+		{"rename ", api.ErrSyntax, 7}, {"rename 1 a", api.ErrSyntax, 7}, {"rename a", api.ErrSyntax, 8}, {"rename a = b", api.ErrSyntax, 9}, {"rename a b c", api.ErrSyntax, 11},
+		{"value", api.ErrSyntax, 5}, {"value (", api.ErrSyntax, 6}, {"value a b", api.ErrSyntax, 8},
+		{"rule", api.ErrSyntax, 4}, {"rule not", api.ErrSyntax, 5}, {"rule a = 1", api.ErrSyntax, 7},
+		{"begin a", api.ErrSyntax, 6}, {"commit 1", api.ErrSyntax, 7}, {"cancel =", api.ErrSyntax, 7}, {"undo undo", api.ErrSyntax, 5}, {"redo (", api.ErrSyntax, 5},
+		{"list 1", api.ErrSyntax, 5}, {"order a", api.ErrSyntax, 6},
 	} {
 		line, errno, at := Read(c.text)
 		if line.Verb != 0 || line.Names != nil || line.Rule.Plain() != "" || errno != c.errno || at != c.at {
