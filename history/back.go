@@ -7,7 +7,7 @@ import "slices"
 // once at most, when all that was done behind it is taken back.
 type Back func() Back
 
-// Put writes into a place.
+// Put writes into a place, and keeps what stood there.
 func Put[T any](place *T, value T) Back {
 	was := *place
 	*place = value
