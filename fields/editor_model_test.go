@@ -298,17 +298,27 @@ func (d drawer) line() string {
 	return "set " + d.name() + " = " + d.numbers(d.Intn(3))
 }
 
-// follow does a line, and holds the answer and the editor against the model.
+// oneOfAll draws an edit, or a line that turns or groups edits.
+func (d drawer) oneOfAll() string {
+	return d.one(d.line(), d.line(), d.line(), d.one("undo", "redo"), d.one("undo", "redo"), "begin", d.one("commit", "commit", "cancel"))
+}
+
+// follow does an edit, and holds the answer and the editor against the model.
 func follow(t *testing.T, e *Editor, m plainRules, line string) (plainRules, api.Errno) {
 	t.Helper()
-	before := everything(e)
+	return followOr(t, e, m, line, everything(e))
+}
+
+// followOr is told what there must be if the edit has an error.
+func followOr(t *testing.T, e *Editor, m plainRules, line, otherwise string) (plainRules, api.Errno) {
+	t.Helper()
 	next, name, errno := m.after(line)
 	got := e.Do(line)
 	if got.Err != errno || got.At != 0 || got.Text != "" || got.Kind != 0 || got.N != 0 {
 		t.Fatalf("%sDo(%q) = %+v, want %d", m.list(), line, got, errno)
 	}
-	if errno != api.OK && before != everything(e) {
-		t.Fatalf("%sDo(%q) = %+v, and it is\n%s", before, line, got, everything(e))
+	if now := everything(e); errno != api.OK && now != otherwise {
+		t.Fatalf("%sDo(%q) = %+v, and it is\n%s\nwant\n%s", m.list(), line, got, now, otherwise)
 	}
 	switch errno {
 	case api.OK:

@@ -10,7 +10,7 @@ import (
 	"fields/token"
 )
 
-// Editor is some rules, and the edits that can be taken back.
+// Editor is some rules, and the edits that can be taken back or done again.
 type Editor struct {
 	sheet   sheet.Sheet
 	history history.History
@@ -40,26 +40,38 @@ func New(undo int) (*Editor, api.Errno) {
 // Do does what a line says (P5 to P9).
 func (e *Editor) Do(line string) api.Reply {
 	read, errno, at := lines.Read(line)
-	if errno != api.OK {
-		return api.Reply{Err: errno, At: at}
+	reply := api.Reply{Err: errno, At: at}
+	if errno == api.OK {
+		reply = e.follow(read)
 	}
-	switch read.Verb {
+	if reply.Err != api.OK && read.Verb.Edits() {
+		e.history.Cancel() // P7; where no group is open, this does nothing
+	}
+	return reply
+}
+
+func (e *Editor) follow(line lines.Line) api.Reply {
+	switch line.Verb {
 	case lines.Set, lines.Delete, lines.Rename:
-		return e.edit(read)
+		return e.edit(line)
+	case lines.Begin:
+		return api.Reply{Err: e.history.Begin()}
+	case lines.Commit:
+		return api.Reply{Err: e.history.Commit()}
+	case lines.Cancel:
+		return api.Reply{Err: e.history.Cancel()}
 	case lines.Undo:
 		return api.Reply{Err: e.history.Undo()}
 	case lines.Redo:
 		return api.Reply{Err: e.history.Redo()}
-	case lines.Value, lines.Rule, lines.List, lines.Order:
-		return e.tell(read)
 	}
-	return api.Reply{}
+	return e.tell(line)
 }
 
 func (e *Editor) edit(line lines.Line) api.Reply {
 	names, back, errno := e.change(line)
 	if errno == api.OK {
-		e.history.Keep(back)
+		e.history.Add(back)
 	}
 	return api.Reply{Err: errno, Names: names}
 }

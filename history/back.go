@@ -1,4 +1,4 @@
-// Package history takes edits back, and does them again.
+// Package history takes edits back, alone or in groups, and does them again.
 package history
 
 import "slices"

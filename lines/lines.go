@@ -25,8 +25,11 @@ const (
 	Order
 )
 
-// Line is a line that was read without an error. It has the NAMEs behind its first word, as many as its
-// verb asks for; a rule only with Set.
+// Edits tells whether a line asks for an edit.
+func (v Verb) Edits() bool { return v == Set || v == Delete || v == Rename }
+
+// Line is a line that was read. It has the NAMEs behind its first word, as many as its verb asks for; a
+// rule only with Set.
 type Line struct {
 	Verb  Verb
 	Names []string
@@ -56,7 +59,9 @@ var heads = [...]head{
 	{"order", Order, 0, false},
 }
 
-// Read reads a text as one LINE; or it tells ErrLong, ErrToken, ErrSyntax or ErrDepth and the place, or ErrLimit.
+// Read reads a text as one LINE; or it tells ErrLong, ErrToken, ErrSyntax or ErrDepth and the place, or
+// ErrLimit. With these, but for ErrLong and ErrToken, the verb of a first word that is known is told too,
+// for an open group hangs on it.
 func Read(text string) (Line, api.Errno, int) {
 	tokens, errno, at := token.Scan(text)
 	if errno != api.OK {
@@ -74,7 +79,7 @@ func (h head) read(left []token.Token) (Line, api.Errno, int) {
 	line := Line{Verb: h.verb}
 	for range h.names {
 		if left[0].Kind != token.Name {
-			return Line{}, api.ErrSyntax, left[0].At
+			return Line{Verb: h.verb}, api.ErrSyntax, left[0].At
 		}
 		line.Names = append(line.Names, left[0].Text)
 		left = left[1:]
@@ -83,18 +88,18 @@ func (h head) read(left []token.Token) (Line, api.Errno, int) {
 		return line.withRule(left)
 	}
 	if left[0].Kind != token.End {
-		return Line{}, api.ErrSyntax, left[0].At
+		return Line{Verb: h.verb}, api.ErrSyntax, left[0].At
 	}
 	return line, api.OK, 0
 }
 
 func (l Line) withRule(left []token.Token) (Line, api.Errno, int) {
 	if left[0].Kind != token.Equal {
-		return Line{}, api.ErrSyntax, left[0].At
+		return Line{Verb: l.Verb}, api.ErrSyntax, left[0].At
 	}
 	rule, errno, at := rules.Read(left[1:])
 	if errno != api.OK {
-		return Line{}, errno, at
+		return Line{Verb: l.Verb}, errno, at
 	}
 	l.Rule = rule
 	return l, api.OK, 0
